@@ -218,12 +218,12 @@ class Reader:
                 found[-1][2].append(self.expression())
             else:
                 name = self.free_name()
-                found.append((name, self.params(), []))
+                found.append((name, self.parameters(), []))
             if self.at == len(self.text):
                 return found
             begins = self.one_of(["\n  ", "\nto "])
 
-    def params(self):
+    def parameters(self):
         self.one_of(["("])
         if self.sign() == ")":
             self.at += 1

@@ -442,7 +442,7 @@ class WrongCode(Machine):
         self.tells(["open", "shut", "shut"], CODE)
         self.tells(["counter"] + worths(1) + [("tick", 1)], CODE)
         self.tells(["leave"], CODE)
-        self.tells(worths("a") + ["scan", "leave", "leave"], CODE)
+        self.tells(worths("a") + ["scan", "leave", "leave", "fail"], CODE)
 
     def test_sixty_held_and_one_more(self):
         for putting in (("worth", 1), ("name", "x"), "counter", ("list", 0), ("deed", "here"), ("keep", 60)):

@@ -3,6 +3,9 @@
 The rows of a stand are tuples, so that marks and ways back hold them as they were. A mark is ("retry", standing),
 ("more", standing, row of results), ("unlend", frame, name, what it had) or ("look", look), where standing is frame,
 place and stand.
+
+What changes while the machine runs tells what it holds by content(), and becomes again what it was by become(): so
+whoever wants to take instructions back has the engine note what things held ahead of them.
 """
 
 from triedagain.deeds import next_of
@@ -18,6 +21,12 @@ class Tally:
     def __init__(self):
         self.count = 0
 
+    def content(self):
+        return self.count
+
+    def become(self, content):
+        self.count = content
+
 
 class Frame:
     """The names of a procedure or a kept expression, and where its caller goes on."""
@@ -29,6 +38,12 @@ class Frame:
         # The number of marks when it began.
         self.floor = floor
 
+    def content(self):
+        return dict(self.given)
+
+    def become(self, content):
+        self.given = dict(content)
+
 
 class Strand:
     """What has marks and a look of its own: the run of main, or that of a kept expression."""
@@ -39,8 +54,18 @@ class Strand:
         self.held = ()
         self.fences = ()
         self.scans = ()
-        self.marks = []
+        # The newest mark and those ahead of it, as (mark, older ones), or None: so they are held as they are without
+        # a copy.
+        self.marks = None
+        self.marks_many = 0
         self.look = NOWHERE
+
+    def content(self):
+        return (self.standing(), self.marks, self.marks_many, self.look)
+
+    def become(self, content):
+        standing, self.marks, self.marks_many, self.look = content
+        self.stand_again(standing)
 
     def standing(self):
         """Frame, place and stand, as marks and ways back hold them."""
@@ -50,9 +75,20 @@ class Strand:
         self.frame, self.place, stand = standing
         self.held, self.fences, self.scans = stand
 
+    def put_mark(self, mark):
+        self.marks = (mark, self.marks)
+        self.marks_many += 1
+
+    def take_mark(self):
+        """Takes the newest mark off."""
+        mark, self.marks = self.marks
+        self.marks_many -= 1
+        return mark
+
     def cut(self, many):
         """Takes all marks beyond so many off."""
-        del self.marks[many:]
+        while self.marks_many > many:
+            self.take_mark()
 
     def depth(self):
         """The number of frames from the one that runs along the ways back."""
@@ -81,6 +117,20 @@ class Engine:
         # What is told behind the last instruction: None as long as the run goes on.
         self.answer = None
         self.result = None
+        # What things held ahead of the instructions that are to be taken back, by the things; None if nobody wants it.
+        self.noted = None
+
+    def content(self):
+        return (self.strand, tuple(self.around), self.answer, self.result)
+
+    def become(self, content):
+        self.strand, around, self.answer, self.result = content
+        self.around = list(around)
+
+    def note(self, thing):
+        """Is told of each thing ahead of a change of what it holds."""
+        if self.noted is not None and thing not in self.noted:
+            self.noted[thing] = thing.content()
 
     def depth(self):
         """The number of calls and asks within one another."""
@@ -105,8 +155,7 @@ class Engine:
         strand.held = strand.held + (item,)
 
     def put_mark(self, mark):
-        strand = self.strand
-        strand.marks.append(mark)
+        self.strand.put_mark(mark)
         self.marked += 1
 
     def put_look_mark(self):
@@ -133,8 +182,8 @@ class Engine:
 
     def go_back(self):
         while True:
-            if len(self.strand.marks) > 0:
-                if self._back_to(self.strand.marks.pop()):
+            if self.strand.marks_many > 0:
+                if self._back_to(self.strand.take_mark()):
                     return
             elif len(self.around) > 0:
                 # The kept expression failed, so the ask goes back as well.
@@ -149,6 +198,7 @@ class Engine:
         strand = self.strand
         if kind == "unlend":
             _, frame, name, had = mark
+            self.note(frame)
             give_back(name, frame.given, had)
             return False
         if kind == "look":
@@ -161,7 +211,7 @@ class Engine:
         if found is None:
             return False
         worth, rest = found
-        strand.marks.append(("more", mark[1], rest))
+        strand.put_mark(("more", mark[1], rest))
         strand.stand_again(mark[1])
         self.put(worth)
         return True

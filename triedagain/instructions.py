@@ -5,6 +5,9 @@ from triedagain.deeds import text_between
 from triedagain.engine import MOST_HELD, Frame, Strand, Tally
 from triedagain.worths import Kept, Listing, Wrong, words_of, worth_given, worth_of_name
 
+# The deeds that change the list which is their first worth.
+CHANGING = ("put", "take", "place")
+
 
 def at_end(engine):
     """Whether there is no instruction where the run stands."""
@@ -37,6 +40,7 @@ def _name(engine, row):
 
 def _give(engine, row):
     worth = engine.take(1)[0]
+    engine.note(engine.strand.frame)
     given = engine.strand.frame.given
     given[row[1]] = worth
     engine.put(worth)
@@ -44,6 +48,7 @@ def _give(engine, row):
 
 def _lend(engine, row):
     worth = engine.take(1)[0]
+    engine.note(engine.strand.frame)
     given = engine.strand.frame.given
     engine.put_mark(("unlend", engine.strand.frame, row[1], worth_given(row[1], given)))
     given[row[1]] = worth
@@ -66,6 +71,8 @@ def _deed(engine, row):
         engine.spoken.append(words_of(worths[0]))
         results = worths
     else:
+        if word in CHANGING and isinstance(worths[0], Listing):
+            engine.note(worths[0])
         results = deed(word, worths, strand.look)
     if len(results) > 0:
         engine.put(results[0])
@@ -115,7 +122,7 @@ def _fail(engine, row):
 def _fence(engine, row):
     strand = engine.strand
     _require_code(len(strand.fences) < MOST_HELD)
-    strand.fences = strand.fences + (len(strand.marks),)
+    strand.fences = strand.fences + (strand.marks_many,)
 
 
 def _take_fence(strand):
@@ -144,6 +151,7 @@ def _take_counter(strand, at):
 def _tick(engine, row):
     fence = _take_fence(engine.strand)
     counter = _take_counter(engine.strand, 2)
+    engine.note(counter)
     counter.count += 1
     if counter.count == row[1]:
         engine.strand.cut(fence)
@@ -151,6 +159,7 @@ def _tick(engine, row):
 
 def _mark(engine, row):
     counter = _take_counter(engine.strand, 2)
+    engine.note(counter)
     counter.count = 1
 
 
@@ -168,7 +177,7 @@ def _call(engine, row):
     worths = engine.take(row[1] + 1)
     routine = worths[0]
     check_call(routine, row[1], engine.depth())
-    frame = Frame(dict(zip(routine.params, worths[1:])), strand.standing(), len(strand.marks))
+    frame = Frame(dict(zip(routine.params, worths[1:])), strand.standing(), strand.marks_many)
     strand.stand_again((frame, engine.entries[routine.name], ((), (), ())))
 
 
@@ -233,12 +242,14 @@ def _yield(engine, row):
 def _ask(engine, row):
     kept = engine.take(1)[0]
     check_ask(kept, engine.depth())
+    engine.note(kept)
     kept.busy = True
     engine.around.append((engine.strand, kept))
     if kept.state is None:
         kept.state = Strand(dict(kept.given), kept.source)
         engine.strand = kept.state
     else:
+        engine.note(kept.state)
         engine.strand = kept.state
         engine.go_back()
 

@@ -30,6 +30,12 @@ class Listing:
     def __init__(self, worths):
         self.worths = list(worths)
 
+    def content(self):
+        return tuple(self.worths)
+
+    def become(self, content):
+        self.worths = list(content)
+
 
 class Kept:
     """A kept expression.
@@ -43,6 +49,12 @@ class Kept:
         self.given = dict(given)
         self.state = None
         self.busy = False
+
+    def content(self):
+        return (self.state, self.busy)
+
+    def become(self, content):
+        self.state, self.busy = content
 
     def made_anew(self):
         return Kept(self.source, self.given)

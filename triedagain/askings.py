@@ -35,7 +35,7 @@ class Asking:
         self.many = 0
         self.row = None
         self.had = ()
-        self.look = None
+        self.noted_look = None
         self.inner_look = None
         self.leaving = None
 
@@ -56,7 +56,7 @@ class Asker:
 
     def __init__(self, program):
         self.routines = routines_of(program)
-        self.look = ("", 0)
+        self.look_now = ("", 0)
         self.spoken = []
         self.steps = 0
         self.turn = ASKED

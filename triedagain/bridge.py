@@ -14,7 +14,7 @@ TESTS = {"alike": "is", "unlike": "isnt"}
 def bridged(expression, environment):
     expression = opened(expression)
     rows = rows_for(environment, row_names(expression))
-    if len(spots_with("last", expression)) > 0 or any([len(spot.place) >= DEEPEST for spot in spots_of(expression)]):
+    if len(spots_with("last", expression)) > 0 or any([len(spot.path) >= DEEPEST for spot in spots_of(expression)]):
         raise NoBridge()
     if any([len(rows[name]) > LONGEST_ROW for name in rows]):
         raise NoBridge()

@@ -113,23 +113,23 @@ def _keep_asked(asker, asking, worth):
 def _scan_gave(asker, asking, worth):
     if asking.at == 0:
         require(isinstance(worth, str))
-        asking.look = asker.look
-        asker.look = (worth, 0)
+        asking.noted_look = asker.look_now
+        asker.look_now = (worth, 0)
         asker.ask_part(asking, 1)
     else:
-        asking.inner_look = asker.look
-        asker.look = asking.look
+        asking.inner_look = asker.look_now
+        asker.look_now = asking.noted_look
         asker.give(asking, worth)
 
 
 def _scan_again(asker, asking, worth):
-    asker.look = asking.inner_look
+    asker.look_now = asking.inner_look
     asker.ask_again(asking, 1)
 
 
 def _scan_failed(asker, asking, worth):
     if asking.at == 1:
-        asker.look = asking.look
+        asker.look_now = asking.noted_look
         asker.ask_again(asking, 0)
     else:
         asker.fail(asking)
@@ -140,7 +140,7 @@ def _leave_scans(asker, asking):
     above = asking.above
     while above != asking.body:
         if above.word == "scan" and above.at == 1:
-            asker.look = above.look
+            asker.look_now = above.noted_look
         above = above.above
 
 
@@ -155,7 +155,7 @@ def _fall(asker, asking, worth):
 
 
 def _out_gave(asker, asking, worth):
-    asking.look = asker.look
+    asking.noted_look = asker.look_now
     _leave_scans(asker, asking)
     body = asking.body
     body.leaving = asking
@@ -176,7 +176,7 @@ def _body_again(asker, asking, worth):
         asker.fail(asking)
     else:
         asking.leaving = None
-        asker.look = leaving.look
+        asker.look_now = leaving.noted_look
         asker.ask_again(leaving, 0)
 
 

@@ -50,38 +50,38 @@ class Strand:
 
     def __init__(self, given, place):
         self.frame = Frame(given, None, 0)
-        self.place = place
-        self.held = ()
-        self.fences = ()
+        self.next_place = place
+        self.held_row = ()
+        self.fence_row = ()
         self.scans = ()
         # The newest mark and those ahead of it, as (mark, older ones), or None: so they are held as they are without
         # a copy.
-        self.marks = None
+        self.mark_chain = None
         self.marks_many = 0
-        self.look = NOWHERE
+        self.look_now = NOWHERE
 
     def content(self):
-        return (self.standing(), self.marks, self.marks_many, self.look)
+        return (self.standing(), self.mark_chain, self.marks_many, self.look_now)
 
     def become(self, content):
-        standing, self.marks, self.marks_many, self.look = content
+        standing, self.mark_chain, self.marks_many, self.look_now = content
         self.stand_again(standing)
 
     def standing(self):
         """Frame, place and stand, as marks and ways back hold them."""
-        return (self.frame, self.place, (self.held, self.fences, self.scans))
+        return (self.frame, self.next_place, (self.held_row, self.fence_row, self.scans))
 
     def stand_again(self, standing):
-        self.frame, self.place, stand = standing
-        self.held, self.fences, self.scans = stand
+        self.frame, self.next_place, stand = standing
+        self.held_row, self.fence_row, self.scans = stand
 
     def put_mark(self, mark):
-        self.marks = (mark, self.marks)
+        self.mark_chain = (mark, self.mark_chain)
         self.marks_many += 1
 
     def take_mark(self):
         """Takes the newest mark off."""
-        mark, self.marks = self.marks
+        mark, self.mark_chain = self.mark_chain
         self.marks_many -= 1
         return mark
 
@@ -139,27 +139,27 @@ class Engine:
     def take(self, many):
         """Takes so many worths off the end of those held."""
         strand = self.strand
-        first = len(strand.held) - many
+        first = len(strand.held_row) - many
         if first < 0:
             raise Wrong("code")
-        worths = strand.held[first:]
+        worths = strand.held_row[first:]
         if any([isinstance(worth, Tally) for worth in worths]):
             raise Wrong("code")
-        strand.held = strand.held[:first]
+        strand.held_row = strand.held_row[:first]
         return worths
 
     def put(self, item):
         strand = self.strand
-        if len(strand.held) >= MOST_HELD:
+        if len(strand.held_row) >= MOST_HELD:
             raise Wrong("code")
-        strand.held = strand.held + (item,)
+        strand.held_row = strand.held_row + (item,)
 
     def put_mark(self, mark):
         self.strand.put_mark(mark)
         self.marked += 1
 
     def put_look_mark(self):
-        self.put_mark(("look", self.strand.look))
+        self.put_mark(("look", self.strand.look_now))
 
     def give(self, worth):
         """The run has this result."""
@@ -202,7 +202,7 @@ class Engine:
             give_back(name, frame.given, had)
             return False
         if kind == "look":
-            strand.look = mark[1]
+            strand.look_now = mark[1]
             return False
         if kind == "retry":
             strand.stand_again(mark[1])

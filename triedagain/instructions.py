@@ -11,14 +11,14 @@ CHANGING = ("put", "take", "place")
 
 def at_end(engine):
     """Whether there is no instruction where the run stands."""
-    return engine.strand.place == len(engine.instructions)
+    return engine.strand.next_place == len(engine.instructions)
 
 
 def do_next(engine):
     """Does the next instruction, with the going back that it brings."""
     strand = engine.strand
-    row = engine.instructions[strand.place]
-    strand.place += 1
+    row = engine.instructions[strand.next_place]
+    strand.next_place += 1
     action = ACTIONS[row[0]]
     try:
         action(engine, row)
@@ -57,8 +57,8 @@ def _lend(engine, row):
 
 def _drop(engine, row):
     strand = engine.strand
-    _require_code(len(strand.held) > 0)
-    strand.held = strand.held[:-1]
+    _require_code(len(strand.held_row) > 0)
+    strand.held_row = strand.held_row[:-1]
 
 
 def _deed(engine, row):
@@ -73,7 +73,7 @@ def _deed(engine, row):
     else:
         if word in CHANGING and isinstance(worths[0], Listing):
             engine.note(worths[0])
-        results = deed(word, worths, strand.look)
+        results = deed(word, worths, strand.look_now)
     if len(results) > 0:
         engine.put(results[0])
     else:
@@ -83,12 +83,12 @@ def _deed(engine, row):
 def _moved(engine, word, worth):
     """The result of moving the look."""
     strand = engine.strand
-    look = strand.look
+    look = strand.look_now
     goals = moved(word, worth, look)
     if len(goals) == 0:
         return ()
     engine.put_look_mark()
-    strand.look = (look[0], goals[0])
+    strand.look_now = (look[0], goals[0])
     return (text_between(look, goals[0]),)
 
 
@@ -100,14 +100,14 @@ def _list(engine, row):
 def _rows(engine, row):
     word = row[1]
     worths = engine.take(ROW_TAKEN[word])
-    results = row_of_results(word, worths, engine.strand.look)
+    results = row_of_results(word, worths, engine.strand.look_now)
     engine.put_mark(("more", engine.strand.standing(), results))
     engine.go_back()
 
 
 def _jump(engine, row):
     strand = engine.strand
-    strand.place = row[1]
+    strand.next_place = row[1]
 
 
 def _retry(engine, row):
@@ -121,14 +121,14 @@ def _fail(engine, row):
 
 def _fence(engine, row):
     strand = engine.strand
-    _require_code(len(strand.fences) < MOST_HELD)
-    strand.fences = strand.fences + (strand.marks_many,)
+    _require_code(len(strand.fence_row) < MOST_HELD)
+    strand.fence_row = strand.fence_row + (strand.marks_many,)
 
 
 def _take_fence(strand):
-    _require_code(len(strand.fences) > 0)
-    fence = strand.fences[-1]
-    strand.fences = strand.fences[:-1]
+    _require_code(len(strand.fence_row) > 0)
+    fence = strand.fence_row[-1]
+    strand.fence_row = strand.fence_row[:-1]
     return fence
 
 
@@ -142,9 +142,9 @@ def _counter(engine, row):
 
 def _take_counter(strand, at):
     """Takes the counter that stands at this place from the end of HELD."""
-    held = strand.held
+    held = strand.held_row
     _require_code(len(held) >= at and isinstance(held[len(held) - at], Tally))
-    strand.held = held[:len(held) - at] + held[len(held) - at + 1:]
+    strand.held_row = held[:len(held) - at] + held[len(held) - at + 1:]
     return held[len(held) - at]
 
 
@@ -167,7 +167,7 @@ def _any(engine, row):
     strand = engine.strand
     counter = _take_counter(strand, 1)
     if counter.count == 1:
-        strand.place = row[1]
+        strand.next_place = row[1]
     else:
         engine.go_back()
 
@@ -188,7 +188,7 @@ def _require_procedure(engine):
 
 def _leave_scans(strand):
     if len(strand.scans) > 0:
-        strand.look = strand.scans[0]
+        strand.look_now = strand.scans[0]
 
 
 def _return(engine, worth):
@@ -228,8 +228,8 @@ def _fall(engine, row):
 
 def _keep(engine, row):
     strand = engine.strand
-    engine.put(Kept(strand.place, strand.frame.given))
-    strand.place = row[1]
+    engine.put(Kept(strand.next_place, strand.frame.given))
+    strand.next_place = row[1]
 
 
 def _yield(engine, row):
@@ -260,15 +260,15 @@ def _scan(engine, row):
     _require_code(len(strand.scans) < MOST_HELD)
     require(isinstance(worth, str))
     engine.put_look_mark()
-    strand.scans = strand.scans + (strand.look,)
-    strand.look = (worth, 0)
+    strand.scans = strand.scans + (strand.look_now,)
+    strand.look_now = (worth, 0)
 
 
 def _leave(engine, row):
     strand = engine.strand
     _require_code(len(strand.scans) > 0)
     engine.put_look_mark()
-    strand.look = strand.scans[-1]
+    strand.look_now = strand.scans[-1]
     strand.scans = strand.scans[:-1]
 
 

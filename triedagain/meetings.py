@@ -15,13 +15,13 @@ def meetings_of(ways):
 
 def _meeting(way, other):
     shared = 0
-    while shared < min(len(way.place), len(other.place)) and way.place[shared] == other.place[shared]:
+    while shared < min(len(way.path), len(other.path)) and way.path[shared] == other.path[shared]:
         shared += 1
     eaches = tuple([(name, row) for name, row, length in way.eaches if length < shared])
-    if shared == len(way.place):
+    if shared == len(way.path):
         # It is the same way: then their results are unlike by the atoms of these names.
         return (eaches, 0)
-    return (eaches, AHEAD if way.place[shared] < other.place[shared] else BEHIND)
+    return (eaches, AHEAD if way.path[shared] < other.path[shared] else BEHIND)
 
 
 def order_told(meeting, given, others):

@@ -14,12 +14,12 @@ BODIES = {"none": (), "give": (), "each": (3,), "choice": (1, 2), "when": (2,), 
 
 
 class Spot:
-    """A part of an open expression, with its place and what is around it, from outside inward."""
+    """A part of an open expression, with the path to it (its place) and what is around it, from outside inward."""
 
-    def __init__(self, place, part, eaches, tests):
-        self.place = place
+    def __init__(self, path, part, eaches, tests):
+        self.path = path
         self.part = part
-        # Each one as (name, row name, length of its place).
+        # Each one as (name, row name, length of the path to it).
         self.eaches = eaches
         self.tests = tests
 
@@ -101,11 +101,11 @@ def spots_of(expression):
         part = spot.part
         eaches, tests = spot.eaches, spot.tests
         if part[0] == "each":
-            eaches = eaches + ((part[1], part[2], len(spot.place)),)
+            eaches = eaches + ((part[1], part[2], len(spot.path)),)
         elif part[0] == "when":
             tests = tests + (part[1],)
         for index in reversed(BODIES[part[0]]):
-            waiting.append(Spot(spot.place + (index,), part[index], eaches, tests))
+            waiting.append(Spot(spot.path + (index,), part[index], eaches, tests))
     return found
 
 
@@ -119,7 +119,7 @@ def spot_at(expression, place):
     if not is_row(place) or not all([is_integer(index) for index in place]):
         return None
     for spot in spots_of(expression):
-        if spot.place == tuple(place):
+        if spot.path == tuple(place):
             return spot
     return None
 

@@ -41,7 +41,7 @@ def _behind_step(expression, step):
     part = new_part(word, spot.part, more, spot)
     if part is None:
         return None
-    whole = _replaced(expression, spot.place, part)
+    whole = _replaced(expression, spot.path, part)
     # It may pass a bound.
     return whole if is_open(whole) else None
 
@@ -78,7 +78,7 @@ def back_step(expression, step):
     spot = spot_at(opened(expression), place)
     part = spot.part
     if word == "drop" and part[0] == "choice":
-        return (spot.place, "ahead" if part[1] == ("none",) else "behind", None)
+        return (spot.path, "ahead" if part[1] == ("none",) else "behind", None)
     if word not in BACK:
         raise NoStep(step)
     told = None
@@ -88,4 +88,4 @@ def back_step(expression, step):
         told = part[1]
     elif word == "word":
         told = (more[0], part[1][more[0]])
-    return (spot.place, BACK[word], told)
+    return (spot.path, BACK[word], told)

@@ -41,7 +41,7 @@ def trace_paper(expression):
         results = results_in(expression, _least(spot, given, names))
         if len(results) == 0:
             return None
-        paper.append((spot.place, given, results[0]))
+        paper.append((spot.path, given, results[0]))
     return paper
 
 
@@ -60,9 +60,9 @@ def is_trace_paper(expression, thing):
         spot = spot_at(expression, place)
         if spot is None or not _is_way_to(given, spot) or not _comes(result, gives, _least(spot, given, names)):
             return False
-        shown[(spot.place, kind_of(given, known))] = True
+        shown[(spot.path, kind_of(given, known))] = True
     for spot, given in _ways_to_lasts(expression):
-        if (spot.place, kind_of(given, known)) not in shown:
+        if (spot.path, kind_of(given, known)) not in shown:
             return False
     return True
 

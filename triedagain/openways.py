@@ -8,7 +8,7 @@ class Way:
     """A give, with what must be so for it to give a result."""
 
     def __init__(self, spot):
-        self.place = spot.place
+        self.path = spot.path
         self.eaches = spot.eaches
         self.tests = spot.tests
         self.shown = spot.part[1]

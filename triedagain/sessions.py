@@ -48,19 +48,19 @@ class Session:
         return other
 
     def place(self):
-        return self._machine().strand.place if self._is_running() else None
+        return self._machine().strand.next_place if self._is_running() else None
 
     def held(self):
         if not self._is_running():
             return []
-        return [_told_item(item) for item in self._machine().strand.held]
+        return [_told_item(item) for item in self._machine().strand.held_row]
 
     def fences(self):
-        return list(self._machine().strand.fences) if self._is_running() else []
+        return list(self._machine().strand.fence_row) if self._is_running() else []
 
     def marks(self):
         found = []
-        left = self._machine().strand.marks
+        left = self._machine().strand.mark_chain
         while left is not None:
             mark, left = left
             found.append(_told_mark(mark))
@@ -74,7 +74,7 @@ class Session:
         return {name: told(given[name]) for name in given}
 
     def look(self):
-        return self._machine().strand.look
+        return self._machine().strand.look_now
 
     def said(self):
         return self._tape.said_behind(len(self._answers))

@@ -30,7 +30,7 @@ def _ask_from(asker, asking, at):
     else:
         if word in ("op", "test"):
             word = asking.whole[1]
-        _finish(asker, asking, deed(word, worths, asker.look))
+        _finish(asker, asking, deed(word, worths, asker.look_now))
 
 
 def _finish(asker, asking, results):
@@ -54,7 +54,7 @@ def _again(asker, asking):
     if word == "lend":
         give_back(asking.whole[1], asking.given, asking.had)
     elif word in ("move", "tab"):
-        asker.look = asking.look
+        asker.look_now = asking.noted_look
     if word == "call":
         asker.ask_again(asking, len(asking.parts))
     elif asking.row is not None:
@@ -114,17 +114,17 @@ def _say(asker, asking, worths):
 
 
 def _move(asker, asking, worths):
-    asking.look = asker.look
-    goals = moved(asking.word, worths[0], asker.look)
+    asking.noted_look = asker.look_now
+    goals = moved(asking.word, worths[0], asker.look_now)
     if len(goals) == 0:
         _ask_last_again(asker, asking)
         return
-    asker.look = (asking.look[0], goals[0])
-    asker.give(asking, text_between(asking.look, goals[0]))
+    asker.look_now = (asking.noted_look[0], goals[0])
+    asker.give(asking, text_between(asking.noted_look, goals[0]))
 
 
 def _rows(asker, asking, worths):
-    asking.row = row_of_results(asking.word, worths, asker.look)
+    asking.row = row_of_results(asking.word, worths, asker.look_now)
     _tell_next(asker, asking)
 
 
@@ -154,8 +154,8 @@ def _ask(asker, asking, worths):
         _ask_last_again(asker, asking)
         return
     kept.busy = True
-    asking.look = asker.look
-    asker.look = look
+    asking.noted_look = asker.look_now
+    asker.look_now = look
     if is_first:
         asker.ask_below(asking, 1, within)
     else:
@@ -169,8 +169,8 @@ def _end_ask(asker, asking, within):
     """The kept one that was asked gave or failed; behind failing there is nothing within that is asked again."""
     kept = asking.worths[0]
     kept.busy = False
-    kept.state = (within, asker.look)
-    asker.look = asking.look
+    kept.state = (within, asker.look_now)
+    asker.look_now = asking.noted_look
 
 
 DEEDS = {

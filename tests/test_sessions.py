@@ -523,52 +523,6 @@ class Trials(unittest.TestCase):
         self.assertEqual(([], 2000), (trial.marks(), len(session.marks())))
 
 
-class Equal(unittest.TestCase):
-    def test_that_tell_the_same_by_other_ways(self):
-        for rows in ([("jump", 0)], ["open", "shut", ("jump", 0)], [("worth", 1), "drop", ("jump", 0)]):
-            session, other = stepped(rows, len(rows)), stepped(rows, 3 * len(rows))
-            self.assertTrue(session == other)
-            self.assertFalse(session != other)
-            self.assertNotEqual(len(session), len(other))
-            self.assertTrue(Session(coded(rows)) == session)
-
-    def test_that_differ_in_one_thing(self):
-        for index, rows, first, second in (
-                (0, [("jump", 1), ("jump", 0)], 0, 1),
-                (1, [("worth", 1), ("jump", 0)], 2, 4),
-                (2, ["open", ("jump", 0)], 0, 2),
-                (3, [("retry", 0), ("jump", 0)], 2, 4),
-                (4, [("worth", 1), ("give", "x"), "drop", ("jump", 0)], 0, 4),
-                (5, ["open", ("worth", "a"), "scan", "shut", ("jump", 0)], 0, 5),
-                (6, [("worth", 1), ("deed", "say"), "drop", ("jump", 0)], 4, 8),
-                (7, [("name", "f"), ("call", 0)], 0, 2),
-                (8, [("worth", 1), "back"], 2, 3)):
-            session, other = stepped(rows, first), stepped(rows, second)
-            unlike = [at for at, (one, two) in enumerate(zip(tells(session)[:-1], tells(other)[:-1])) if one != two]
-            self.assertEqual([index], unlike)
-            self.assertFalse(session == other)
-            self.assertTrue(session != other)
-
-    def test_numbers_and_texts_that_look_alike(self):
-        rows = worths(1, "1") + [("list", 2), ("rows", "items"), "fail"]
-        session, other = stepped(rows, 4), stepped(rows, 5)
-        self.assertEqual(([1], ["1"]), (session.held(), other.held()))
-        self.assertEqual(tells(session)[2:9], tells(other)[2:9])
-        self.assertNotEqual(session, other)
-
-    def test_codes(self):
-        session, other = stepped(["fail", "fail"]), stepped(["fail", "fall"])
-        self.assertEqual(tells(session), tells(other))
-        self.assertNotEqual(session, other)
-        self.assertEqual(session, stepped(["fail", "fail"]))
-
-    def test_nothing_else_is_equal(self):
-        session = stepped(["fail"])
-        for other in (None, True, 0, "", [], (), {}, session.held(), coded(["fail"]), MachineRun(coded(["fail"]))):
-            self.assertFalse(session == other)
-            self.assertTrue(session != other)
-
-
 class Traced(unittest.TestCase):
     def test_places(self):
         rows = worths(1, 2) + [("rows", "to"), ("deed", "say"), "fail"]

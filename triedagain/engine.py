@@ -5,7 +5,7 @@ The rows of a stand are tuples, so that marks and ways back hold them as they we
 place and stand.
 
 What changes while the machine runs tells what it holds by content(), and becomes again what it was by become(): so
-whoever wants to take instructions back has the engine note what things held ahead of them.
+whoever wants to take an instruction back, or to know what was ahead of it, has the engine note what things held then.
 """
 
 from triedagain.deeds import next_of
@@ -90,14 +90,14 @@ class Strand:
         while self.marks_many > many:
             self.take_mark()
 
-    def depth(self):
-        """The number of frames from the one that runs along the ways back."""
-        many = 1
-        way = self.frame.way
-        while way is not None:
-            many += 1
-            way = way[0].way
-        return many
+
+def frames_from(frame):
+    """The number of frames from this one along the ways back; none for None."""
+    many = 0
+    while frame is not None:
+        many += 1
+        frame = None if frame.way is None else frame.way[0]
+    return many
 
 
 class Engine:
@@ -117,7 +117,7 @@ class Engine:
         # What is told behind the last instruction: None as long as the run goes on.
         self.answer = None
         self.result = None
-        # What things held ahead of the instructions that are to be taken back, by the things; None if nobody wants it.
+        # What things held ahead of the instructions, by the things; None if nobody wants to know it.
         self.noted = None
 
     def content(self):
@@ -134,7 +134,7 @@ class Engine:
 
     def depth(self):
         """The number of calls and asks within one another."""
-        return self.strand.depth() + sum([strand.depth() for strand, _ in self.around])
+        return frames_from(self.strand.frame) + sum([frames_from(strand.frame) for strand, _ in self.around])
 
     def take(self, many):
         """Takes so many worths off the end of those held."""

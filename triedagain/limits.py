@@ -16,4 +16,5 @@ def told_result(answer, result):
     """What the result is told as, where answer is what a run told last, or None."""
     if answer is None or answer[0] != "gave":
         raise NoResult()
-    return told(result)
+    # Runs are never taken back, so the result is told as it is now: nothing has a past.
+    return told(result, {}, 0)

@@ -1,13 +1,12 @@
 """Sessions: runs of codes that are led step by step, and back."""
 
-from triedagain.engine import Tally
 from triedagain.errors import BadPlace, NothingDone, Over, TooMany
 from triedagain.limits import check_limit
 from triedagain.shapes import is_integer
 from triedagain.tape import Tape
-from triedagain.worths import told
+from triedagain.tellings import WENT, all_told, is_over, told_depth, told_fences, told_held, told_look, told_marks
+from triedagain.tellings import told_names, told_place, told_said
 
-WENT = ("went",)
 MOST_STEPS = 2000
 
 
@@ -17,7 +16,7 @@ class Session:
     def __init__(self, code):
         self._code = code
         self._tape = Tape(code)
-        # What the steps told that were done and not taken back.
+        # What the steps told that were done and not taken back; where it stands is told by their number.
         self._answers = []
 
     def step(self):
@@ -48,50 +47,31 @@ class Session:
         return other
 
     def place(self):
-        return self._machine().strand.next_place if self._is_running() else None
+        return told_place(self._tape, len(self._answers))
 
     def held(self):
-        if not self._is_running():
-            return []
-        return [_told_item(item) for item in self._machine().strand.held_row]
+        return told_held(self._tape, len(self._answers))
 
     def fences(self):
-        return list(self._machine().strand.fence_row) if self._is_running() else []
+        return told_fences(self._tape, len(self._answers))
 
     def marks(self):
-        found = []
-        left = self._machine().strand.mark_chain
-        while left is not None:
-            mark, left = left
-            found.append(_told_mark(mark))
-        found.reverse()
-        return found
+        return told_marks(self._tape, len(self._answers))
 
     def names(self):
-        if not self._is_running():
-            return {}
-        given = self._machine().strand.frame.given
-        return {name: told(given[name]) for name in given}
+        return told_names(self._tape, len(self._answers))
 
     def look(self):
-        return self._machine().strand.look_now
+        return told_look(self._tape, len(self._answers))
 
     def said(self):
-        return self._tape.said_behind(len(self._answers))
+        return told_said(self._tape, len(self._answers))
 
     def depth(self):
-        return self._machine().strand.depth() if self._is_running() else 0
+        return told_depth(self._tape, len(self._answers))
 
     def over(self):
-        return len(self._answers) > 0 and self._answers[-1][0] in ("failed", "wrong")
-
-    def _is_running(self):
-        """Whether there is a frame: no result is out, and the run is not over."""
-        return len(self._answers) == 0 or self._answers[-1] == WENT
-
-    def _machine(self):
-        """The engine as it stands for this session."""
-        return self._tape.engine_behind(len(self._answers))
+        return is_over(self._tape, len(self._answers))
 
     def __len__(self):
         return len(self._answers)
@@ -99,28 +79,14 @@ class Session:
     def __eq__(self, other):
         if not isinstance(other, Session) or self._code != other._code:
             return False
-        return [self.place(), self.held(), self.fences(), self.marks(), self.names(), self.look(), self.said(),
-                self.depth(), self.over()] == [other.place(), other.held(), other.fences(), other.marks(),
-                                               other.names(), other.look(), other.said(), other.depth(), other.over()]
+        # Not by the methods: nothing that is handed in or held is called here.
+        return all_told(self._tape, len(self._answers)) == all_told(other._tape, len(other._answers))
 
     def __enter__(self):
         return self
 
     def __exit__(self, kind, value, trace):
         pass
-
-
-def _told_item(item):
-    return ("counter", item.count) if isinstance(item, Tally) else told(item)
-
-
-def _told_mark(mark):
-    """What a mark of the engine is told as."""
-    if mark[0] in ("retry", "more"):
-        return (mark[0], mark[1][1])
-    if mark[0] == "unlend":
-        return ("unlend", mark[2])
-    return ("look", mark[1][1])
 
 
 def traced(code, most):

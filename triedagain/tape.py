@@ -1,51 +1,41 @@
-"""The steps of a run of a code, done once and taken back and forth.
+"""The steps of a run of a code, done once and never taken back.
 
 What a step does hangs on nothing but the steps ahead of it. So all sessions that began as one share a tape, and each
-of them needs to know only how many steps it has done: whatever one of them does, the others find the same.
+of them needs to know only how many steps it has done: whatever one of them does, the others find the same. The tape
+keeps what the run told and held behind each number of steps, so nobody who wants to know it has to change the run.
 """
 
-from triedagain.engine import Engine
+from triedagain.engine import Engine, Frame, Tally
 from triedagain.errors import TooMany
 from triedagain.instructions import at_end, do_next
+from triedagain.worths import Listing
 
 MOST_WITHIN = 20000
 
 
 class Tape:
-    """A run, and for each step what the things that it changed held ahead of it and behind it."""
+    """A run that only goes on, and what it told and held behind its steps."""
 
     def __init__(self, code):
         self._engine = Engine(code)
-        # How many of the steps are done in the engine as it stands.
-        self._at = 0
-        # For each step a row of (thing, what it held ahead, what it held behind), and what the step told.
-        self._changes = []
-        self._answers = []
-        # How many words were said behind no step, one step and so on; the words themselves are never taken back.
-        self._words = [0]
-
-    def engine_behind(self, many):
-        """The engine as it stands behind so many steps; it may be read until the tape is asked for something else."""
-        while self._at > many:
-            self._at -= 1
-            for thing, ahead, _ in self._changes[self._at]:
-                thing.become(ahead)
-        while self._at < many:
-            for thing, _, behind in self._changes[self._at]:
-                thing.become(behind)
-            self._at += 1
-        return self._engine
-
-    def said_behind(self, many):
-        return self._engine.spoken[:self._words[many]]
+        # What each step told.
+        self.answers = []
+        # Behind no step, one step and so on: what the strand of main held, and how many words were said.
+        self.contents = [self._engine.strand.content()]
+        self.words_many = [0]
+        # The words themselves are never taken back.
+        self.spoken = self._engine.spoken
+        # The past of the frames, lists and counters.
+        self.past = {}
 
     def step_behind(self, many):
         """What the step behind so many steps tells; TooMany if kept expressions do too much in it."""
-        if many == len(self._changes):
-            self._do_step(self.engine_behind(many))
-        return self._answers[many]
+        if many == len(self.answers):
+            self._do_step()
+        return self.answers[many]
 
-    def _do_step(self, engine):
+    def _do_step(self):
+        engine = self._engine
         noted = {}
         engine.noted = noted
         engine.note(engine)
@@ -55,12 +45,16 @@ class Tape:
         if not is_done:
             for thing in noted:
                 thing.become(noted[thing])
-            del engine.spoken[self._words[-1]:]
+            del self.spoken[self.words_many[-1]:]
             raise TooMany(MOST_WITHIN)
-        self._changes.append([(thing, noted[thing], thing.content()) for thing in noted])
-        self._answers.append(("went",) if engine.answer is None else engine.answer)
-        self._words.append(len(engine.spoken))
-        self._at += 1
+        self.answers.append(("went",) if engine.answer is None else engine.answer)
+        self.contents.append(engine.strand.content())
+        self.words_many.append(len(self.spoken))
+        for thing in noted:
+            # Nobody is told what the others hold.
+            if isinstance(thing, (Frame, Listing, Tally)):
+                rows = self.past.setdefault(thing, [(0, noted[thing])])
+                rows.append((len(self.answers), thing.content()))
 
 
 def _is_done(engine):

@@ -4,6 +4,7 @@ None of these classes has an equality of its own, so that two worths are the sam
 """
 
 from triedagain.errors import TriedError
+from triedagain.pasts import held_behind
 
 MOST_ITEMS = 20
 
@@ -113,19 +114,22 @@ def _words_within(item):
     return words_of(item)
 
 
-def told(worth):
-    """What a worth is told as outside of a run, where nobody can change what the run holds."""
+def told(worth, past, many):
+    """What a worth is told as outside of a run, where nobody can change what the run holds.
+
+    It is told as behind so many steps; with an empty past as it is now.
+    """
     if isinstance(worth, Listing):
-        return ("list", [_told_within(item) for item in worth.worths])
-    return _told_within(worth)
+        return ("list", [_told_within(item, past, many) for item in held_behind(past, many, worth, worth.worths)])
+    return _told_within(worth, past, many)
 
 
-def _told_within(item):
+def _told_within(item, past, many):
     """What an item of a list is told as."""
     if isinstance(item, Routine):
         return ("to", item.name)
     if isinstance(item, Listing):
-        return ("list", len(item.worths))
+        return ("list", len(held_behind(past, many, item, item.worths)))
     if isinstance(item, Kept):
         return ("kept",)
     return item
